@@ -83,6 +83,10 @@ func valueValid(value int, size int) bool {
 	return value >= 1 && value <= size
 }
 
+func lineValid(size int, line int) bool {
+	return sizeValid(size) && line >= 0 && line < 2*size
+}
+
 // GridValid reports whether values are those of a grid with a size in MinSize..MaxSize: there are size * size of them, each in 0..size; 0 stands for an empty cell. The cell in a row and a column, both from 0 on, has the number row * size + column.
 func GridValid(grid []int, size int) bool {
 	return cellGrid{grid, size}.valid()
@@ -126,7 +130,7 @@ func GridSwap(grid []int, size int, a int, b int) []int {
 
 // LineCells returns the numbers of the cells of a line of a grid with a size in MinSize..MaxSize, in ascending order: lines 0 to size - 1 are the rows, and lines size to 2 * size - 1 the columns; nil for other arguments.
 func LineCells(size int, line int) []int {
-	if !sizeValid(size) || line < 0 || line >= 2*size {
+	if !lineValid(size, line) {
 		return nil
 	}
 	first, step := line*size, 1

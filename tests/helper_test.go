@@ -110,3 +110,81 @@ func checkFresh(t *testing.T, name string, values []int, call func(grid []int) [
 		t.Fatalf("two results of %s share memory, for the grid %v", name, values)
 	}
 }
+
+// repeatsNothing tells whether no value but 0 stands twice in a row or a column.
+func repeatsNothing(grid []int, size int) bool {
+	for a := range grid {
+		for b := range a {
+			sameLine := a/size == b/size || a%size == b%size
+			if sameLine && grid[a] != 0 && grid[a] == grid[b] {
+				return false
+			}
+		}
+	}
+	return true
+}
+
+// solvedGrids lists the solved grids of a size in ascending order. It lays whole rows below each other, so that it shares no thought with the program.
+func solvedGrids(size int) [][]int {
+	rows := ascendingRows(size)
+	grids := [][]int{{}}
+	for range size {
+		var longer [][]int
+		for _, grid := range grids {
+			for _, row := range rows {
+				if below := slices.Concat(grid, row); repeatsNothing(below, size) {
+					longer = append(longer, below)
+				}
+			}
+		}
+		grids = longer
+	}
+	return grids
+}
+
+// ascendingRows lists the rows with every value once, in ascending order.
+func ascendingRows(size int) [][]int {
+	rows := [][]int{{}}
+	for range size {
+		var longer [][]int
+		for _, row := range rows {
+			for value := 1; value <= size; value++ {
+				if !slices.Contains(row, value) {
+					longer = append(longer, append(slices.Clone(row), value))
+				}
+			}
+		}
+		rows = longer
+	}
+	return rows
+}
+
+// eachNearlySolved visits every solved grid, the same with some cells emptied in a fixed pattern, and both with every single cell changed to every other value.
+func eachNearlySolved(visit func(grid []int, size int)) {
+	for size := 2; size <= 4; size++ {
+		for number, solved := range solvedGrids(size) {
+			visitChanged(solved, size, visit)
+			emptied := slices.Clone(solved)
+			for cell := range emptied {
+				if (number+cell*cell)%3 == 0 {
+					emptied[cell] = 0
+				}
+			}
+			visitChanged(emptied, size, visit)
+		}
+	}
+}
+
+func visitChanged(values []int, size int, visit func(grid []int, size int)) {
+	visit(slices.Clone(values), size)
+	for cell := range values {
+		for value := 0; value <= size; value++ {
+			if value == values[cell] {
+				continue
+			}
+			grid := slices.Clone(values)
+			grid[cell] = value
+			visit(grid, size)
+		}
+	}
+}

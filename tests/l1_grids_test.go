@@ -18,19 +18,6 @@ func filledOf(grid []int) int {
 	return count
 }
 
-// repeatsNothing tells whether no value but 0 stands twice in a row or a column.
-func repeatsNothing(grid []int, size int) bool {
-	for a := range grid {
-		for b := range a {
-			sameLine := a/size == b/size || a%size == b%size
-			if sameLine && grid[a] != 0 && grid[a] == grid[b] {
-				return false
-			}
-		}
-	}
-	return true
-}
-
 func turnTimes(grid []int, size int, times int) []int {
 	for range times {
 		grid = impl.GridTurn(grid, size)
@@ -236,7 +223,7 @@ func TestP18EverySwap(t *testing.T) {
 				if !slices.Equal(impl.GridSwap(swapped, size, a, b), grid) {
 					t.Fatalf("%v: two swaps of %d and %d change it", grid, a, b)
 				}
-				if repeatsNothing(swapped, size) != repeatsNothing(grid, size) {
+				if impl.SquareFits(swapped, size) != impl.SquareFits(grid, size) {
 					t.Fatalf("%v: only one of it and its swap of %d and %d fits", grid, a, b)
 				}
 			}
