@@ -87,6 +87,11 @@ func lineValid(size int, line int) bool {
 	return sizeValid(size) && line >= 0 && line < 2*size
 }
 
+// linesThrough returns the row and the column of a cell, numbered as by LineCells.
+func linesThrough(size int, cell int) (row int, column int) {
+	return cell / size, size + cell%size
+}
+
 // GridValid reports whether values are those of a grid with a size in MinSize..MaxSize: there are size * size of them, each in 0..size; 0 stands for an empty cell. The cell in a row and a column, both from 0 on, has the number row * size + column.
 func GridValid(grid []int, size int) bool {
 	return cellGrid{grid, size}.valid()

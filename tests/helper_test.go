@@ -61,11 +61,7 @@ func everyGrid(size int, visit func(grid []int, size int)) {
 }
 
 func someGridsOfSize4(visit func(grid []int, size int)) {
-	state := uint32(1)
-	next := func(limit uint32) int {
-		state = state*1664525 + 1013904223
-		return int(state >> 16 % limit)
-	}
+	next := fixedNumbers()
 	for density := range 17 {
 		for range 200 {
 			grid := make([]int, 16)
@@ -78,6 +74,15 @@ func someGridsOfSize4(visit func(grid []int, size int)) {
 		}
 	}
 	visit([]int{1, 2, 3, 4, 2, 1, 4, 3, 3, 4, 1, 2, 4, 3, 2, 1}, 4)
+}
+
+// fixedNumbers returns a source of numbers below a limit that look irregular and are the same in every run.
+func fixedNumbers() func(limit uint32) int {
+	state := uint32(1)
+	return func(limit uint32) int {
+		state = state*1664525 + 1013904223
+		return int(state >> 16 % limit)
+	}
 }
 
 // withSpare returns the same values in memory that goes on behind them, to show whether a call writes there.
@@ -109,6 +114,14 @@ func checkFresh(t *testing.T, name string, values []int, call func(grid []int) [
 	if !slices.Equal(second, want) || !slices.Equal(call(grid), want) {
 		t.Fatalf("two results of %s share memory, for the grid %v", name, values)
 	}
+}
+
+// truth makes a result for checkFresh of an answer that has no memory.
+func truth(is bool) []int {
+	if is {
+		return []int{1}
+	}
+	return []int{0}
 }
 
 // repeatsNothing tells whether no value but 0 stands twice in a row or a column.

@@ -379,12 +379,6 @@ func TestP113InvalidArguments(t *testing.T) {
 }
 
 func TestSquareResultsAreNew(t *testing.T) {
-	truth := func(is bool) []int {
-		if is {
-			return []int{1}
-		}
-		return []int{0}
-	}
 	for _, g := range []sizedGrid{
 		{[]int{1, 2, 2, 1}, 2},
 		{[]int{0, 0, 0, 0}, 2},
