@@ -382,7 +382,7 @@ func TestP38MasksWithinOthers(t *testing.T) {
 				t.Fatalf("%v of size %d have %d values, and %d after one less", masks, size, count, got)
 			}
 		}
-		for _, narrowed := range [][]int{impl.NarrowSingles(masks, size), impl.NarrowHidden(masks, size)} {
+		for _, narrowed := range [][]int{impl.NarrowSingles(masks, size), impl.NarrowHidden(masks, size), impl.NarrowPairs(masks, size)} {
 			got := impl.MasksCount(narrowed, size)
 			if got > count || (got == count) != slices.Equal(masks, narrowed) {
 				t.Fatalf("%v of size %d have %d values, and %v within them %d", masks, size, count, narrowed, got)
