@@ -785,22 +785,37 @@ func TestP116InvalidArguments(t *testing.T) {
 	}
 }
 
+// puzzleWithSpare returns the same puzzle in memory that goes on behind all its parts, to show whether a call writes there.
+func puzzleWithSpare(p impl.Puzzle) impl.Puzzle {
+	kept := impl.Puzzle{Size: p.Size, Given: withSpare(p.Given), Rules: append(slices.Clone(p.Rules), impl.Rule{Kind: 77})[:len(p.Rules)]}
+	for k := range kept.Rules {
+		kept.Rules[k].Cells = withSpare(p.Rules[k].Cells)
+	}
+	return kept
+}
+
+// checkUntouched fails if a puzzle of puzzleWithSpare is not what it was made of any more.
+func checkUntouched(t *testing.T, kept impl.Puzzle, p impl.Puzzle) {
+	t.Helper()
+	if !slices.Equal(kept.Given, p.Given) || spareTouched(kept.Given) {
+		t.Fatalf("what is given in %v is written to", p)
+	}
+	if spare := kept.Rules[:len(p.Rules)+1][len(p.Rules)]; spare.Kind != 77 {
+		t.Fatalf("the memory behind the rules of %v is written to", p)
+	}
+	for k, rule := range kept.Rules {
+		same := rule.Kind == p.Rules[k].Kind && rule.Value == p.Rules[k].Value && slices.Equal(rule.Cells, p.Rules[k].Cells)
+		if !same || spareTouched(rule.Cells) {
+			t.Fatalf("rule %d of %v is written to", k, p)
+		}
+	}
+}
+
 func TestPuzzleResultsAreNew(t *testing.T) {
 	eachPuzzle(func(p impl.Puzzle, solutions [][]int) {
-		kept := impl.Puzzle{Size: p.Size, Given: withSpare(p.Given), Rules: append(slices.Clone(p.Rules), impl.Rule{Kind: 77})[:len(p.Rules)]}
-		for k := range kept.Rules {
-			kept.Rules[k].Cells = withSpare(p.Rules[k].Cells)
-		}
+		kept := puzzleWithSpare(p)
 		checkPuzzleResults(t, kept)
-		if spare := kept.Rules[:len(p.Rules)+1][len(p.Rules)]; spare.Kind != 77 {
-			t.Fatalf("the memory behind the rules of %v is written to", p)
-		}
-		for k, rule := range kept.Rules {
-			same := rule.Kind == p.Rules[k].Kind && rule.Value == p.Rules[k].Value && slices.Equal(rule.Cells, p.Rules[k].Cells)
-			if !same || spareTouched(rule.Cells) {
-				t.Fatalf("rule %d of %v is written to", k, p)
-			}
-		}
+		checkUntouched(t, kept, p)
 	})
 }
 

@@ -97,9 +97,10 @@ func narrowedBy(p puzzleWithWays, masks []int, technique int) []int {
 	return rulesNarrowed(p, masks)
 }
 
-// narrowedByAll lists the techniques of all rounds of NarrowAll, and the masks afterwards: after a change it begins again with the first technique.
-func narrowedByAll(p puzzleWithWays, masks []int, most int) ([]int, []int) {
-	var rounds []int
+// roundsByAll lists the techniques of all rounds of NarrowAll, and the masks before the first round and after every one: after a change it begins again with the first technique.
+func roundsByAll(p puzzleWithWays, masks []int, most int) ([]int, [][]int) {
+	var techniques []int
+	seen := [][]int{masks}
 	technique := 1
 	for technique <= most {
 		narrowed := narrowedBy(p, masks, technique)
@@ -107,10 +108,16 @@ func narrowedByAll(p puzzleWithWays, masks []int, most int) ([]int, []int) {
 			technique++
 			continue
 		}
-		rounds = append(rounds, technique)
+		techniques, seen = append(techniques, technique), append(seen, narrowed)
 		masks, technique = narrowed, 1
 	}
-	return masks, rounds
+	return techniques, seen
+}
+
+// narrowedByAll returns the masks after all rounds of NarrowAll, and their techniques.
+func narrowedByAll(p puzzleWithWays, masks []int, most int) ([]int, []int) {
+	techniques, seen := roundsByAll(p, masks, most)
+	return seen[len(seen)-1], techniques
 }
 
 // keepsSolutions tells whether no solution of a puzzle that was in masks is lost.
@@ -680,10 +687,7 @@ func TestRuleNarrowingResultsAreNew(t *testing.T) {
 // checkNarrowingResults fails if a function of the chapter writes to its puzzle or its masks, or shares memory with them.
 func checkNarrowingResults(t *testing.T, p impl.Puzzle, masks []int) {
 	t.Helper()
-	kept := impl.Puzzle{Size: p.Size, Given: withSpare(p.Given), Rules: append(slices.Clone(p.Rules), impl.Rule{Kind: 77})[:len(p.Rules)]}
-	for k := range kept.Rules {
-		kept.Rules[k].Cells = withSpare(p.Rules[k].Cells)
-	}
+	kept := puzzleWithSpare(p)
 	checkFresh(t, "NarrowRules", masks, func(masks []int) []int { return impl.NarrowRules(kept, masks) })
 	for technique := 1; technique <= 4; technique++ {
 		checkFresh(t, "NarrowBy", masks, func(masks []int) []int { return impl.NarrowBy(kept, masks, technique) })
@@ -692,13 +696,5 @@ func checkNarrowingResults(t *testing.T, p impl.Puzzle, masks []int) {
 			return narrowed
 		})
 	}
-	if !slices.Equal(kept.Given, p.Given) || spareTouched(kept.Given) || kept.Rules[:len(p.Rules)+1][len(p.Rules)].Kind != 77 {
-		t.Fatalf("%v is written to", p)
-	}
-	for k, rule := range kept.Rules {
-		same := rule.Kind == p.Rules[k].Kind && rule.Value == p.Rules[k].Value && slices.Equal(rule.Cells, p.Rules[k].Cells)
-		if !same || spareTouched(rule.Cells) {
-			t.Fatalf("rule %d of %v is written to", k, p)
-		}
-	}
+	checkUntouched(t, kept, p)
 }
