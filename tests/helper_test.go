@@ -116,6 +116,21 @@ func checkFresh(t *testing.T, name string, values []int, call func(grid []int) [
 	}
 }
 
+// listsApart writes to lists, and tells whether no two of them share memory.
+func listsApart(lists [][]int) bool {
+	for number, list := range lists {
+		for k := range list {
+			list[k] = 1000 + number
+		}
+	}
+	for number, list := range lists {
+		if slices.ContainsFunc(list, func(value int) bool { return value != 1000+number }) {
+			return false
+		}
+	}
+	return true
+}
+
 // truth makes a result for checkFresh of an answer that has no memory.
 func truth(is bool) []int {
 	if is {

@@ -758,15 +758,8 @@ func checkOwnMemory(t *testing.T, name string, kept impl.Puzzle, p impl.Puzzle, 
 			lists = append(lists, rule.Cells[:cap(rule.Cells)])
 		}
 	}
-	for number, list := range lists {
-		for k := range list {
-			list[k] = 1000 + number
-		}
-	}
-	for number, list := range lists {
-		if slices.ContainsFunc(list, func(value int) bool { return value != 1000+number }) {
-			t.Fatalf("two lists of results of %s share memory, for %v", name, p)
-		}
+	if !listsApart(lists) {
+		t.Fatalf("two lists of results of %s share memory, for %v", name, p)
 	}
 	for number, puzzle := range made {
 		rules := puzzle.Rules[:cap(puzzle.Rules)]
